@@ -190,6 +190,7 @@ func TestErrors(t *testing.T) {
 
 // R1: whatever is asked, there is an answer or an error.
 func TestWhateverIsAsked(t *testing.T) {
+	t.Parallel()
 	r := rand.New(rand.NewPCG(3, 11))
 	number := func() int {
 		return []int{0, 1, 2, 3, 4, 8, 9, 10, 20, 30, 31, 40, 41, 14, 200, 201, 1000000, 1000001, 10000007, 10000008, -1, -10, math.MaxInt, math.MinInt}[r.IntN(24)]

@@ -230,6 +230,7 @@ func TestVoids(t *testing.T) {
 
 // P3.1, C1: random reports are refused as the model refuses them.
 func TestRandomRefusals(t *testing.T) {
+	t.Parallel()
 	r := rand.New(rand.NewPCG(3, 1))
 	seen := map[string]int{}
 	for range 300 {

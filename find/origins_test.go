@@ -101,6 +101,7 @@ func TestShortest(t *testing.T) {
 
 // P3.1, C5, C6, P3.6 and P3.8: origins, remains and chains are those of the model, and say the same.
 func TestRandomOrigins(t *testing.T) {
+	t.Parallel()
 	r := rand.New(rand.NewPCG(3, 4))
 	long := 0
 	for range 30 {

@@ -93,6 +93,7 @@ func TestLooks(t *testing.T) {
 
 // P3.1, C3, C4, and P3.8: parcels are those of the model, and nothing depends on what is known later.
 func TestRandomParcels(t *testing.T) {
+	t.Parallel()
 	r := rand.New(rand.NewPCG(3, 3))
 	for range 40 {
 		l := newWriter(r, 9, 0.3).list(30)

@@ -88,6 +88,7 @@ func spoilt(r *rand.Rand, line, signs string) string {
 
 // P3.9: reports that are well-formed, and lines that are spoilt.
 func TestTexts(t *testing.T) {
+	t.Parallel()
 	r := rand.New(rand.NewPCG(3, 10))
 	w := newWriter(r, 100000, 0.5)
 	seen := map[uint8]int{}

@@ -259,6 +259,7 @@ func fewMoves(r *rand.Rand, most int, wrong float64) ([]api.Report, int) {
 
 // P3.1, C7, C8, P3.3 and P3.4: ends, what shows them, and conflicts are those that all sides show.
 func TestRandomWeights(t *testing.T) {
+	t.Parallel()
 	r := rand.New(rand.NewPCG(3, 5))
 	seen := map[string]int{}
 	for range 250 {
@@ -310,6 +311,7 @@ func TestRandomWeights(t *testing.T) {
 
 // P3.1, C7, C8, C9: sides and conflicts of all kinds are judged as the model judges them.
 func TestRandomSides(t *testing.T) {
+	t.Parallel()
 	r := rand.New(rand.NewPCG(3, 6))
 	for range 60 {
 		l, known := fewMoves(r, 9, 0.1)
@@ -442,6 +444,7 @@ func allBalanced(counts []api.Report, parcels []api.Parcel, do func(weight map[i
 // P3.2, P3.3, P3.4: all balanced weights of small lists: each number between the ends occurs and no other, and all finds
 // weigh what all parcels weigh that are there.
 func TestAllWeights(t *testing.T) {
+	t.Parallel()
 	r := rand.New(rand.NewPCG(3, 7))
 	balanced := 0
 	for range 2000 {
@@ -521,6 +524,7 @@ func isIn(a, b api.Span) bool { return b.Low <= a.Low && a.High <= b.High }
 
 // P3.5: a further report narrows, and a void of a weighing widens. P3.1, C9: Changed has what differs.
 func TestNarrowing(t *testing.T) {
+	t.Parallel()
 	r := rand.New(rand.NewPCG(3, 8))
 	seen := map[uint8]int{}
 	for i := range 600 {
@@ -570,6 +574,7 @@ func TestNarrowing(t *testing.T) {
 
 // P3.7: without all weighings on which it does not rest an end is still shown.
 func TestRandomRests(t *testing.T) {
+	t.Parallel()
 	r := rand.New(rand.NewPCG(3, 9))
 	shown := 0
 	for range 120 {
